@@ -1,0 +1,92 @@
+"""Checks and wrong values that the test files share."""
+
+import inspect
+import random
+import unittest
+
+from fourread.errors import InvalidSystem, ReadError, TooMany
+
+
+def nested(value, deep):
+    """The value within lists and tuples by turns, as deep as told."""
+    for level in range(deep):
+        value = [value] if level % 2 else (value,)
+    return value
+
+
+# Values of all kinds that are no integer.
+NO_INTEGERS = [
+    None, True, False, "", "1", "0", "word", (), (1,), (0, 1), ((1,),), [], [1], [0, 1], [[1], (0,)],
+    nested(1, 10), TooMany("letters"), InvalidSystem("size", 0),
+]
+
+# Tuples of two that are no words, each for a reason of its own.
+NO_PAIRS_OF_BITS = [
+    (0, 2), (2, 0), (-1, 0), (0, -1), (True, 0), (0, True), (False, 1), (1, False), (None, 0), (1, None),
+    ("0", 1), (0, "1"), ((0,), 1), (0, (1,)), ([0], 1), (1, []), (10 ** 20, 0), (TooMany("x"), 1),
+]
+
+# Values that are no word of whatever length.
+NO_WORDS = [
+    None, True, False, 0, 1, 2, -1, "", "0", "1", "01", "word", [], [0], [1], [0, 1], [1, 0, 1], [(0, 1)], (),
+    (2,), (-1,), (True,), (False,), (None,), ("0",), ("01",), ((0,),), ((0, 1),), ([0],), (0,) * 13, (1,) * 13,
+    (0, 1) * 10, (0, 1, 2), (1, 1, True), (0, 0, 0, None), (0,) * 11 + (2,), (True,) + (1,) * 11,
+    nested(1, 10), nested((0, 1), 9), TooMany("letters"), (TooMany("letters"),), *NO_PAIRS_OF_BITS,
+]
+
+# Values that are no matrix of whatever size.
+NO_MATRICES = [
+    None, True, False, 0, 1, "", "1", "10", (), [], (0,), (1,), (1, 0), [(1,)], ([1],), [[1]], ((),), ((), ()), ((2,),),
+    ((True,),), ((None,),), (("1",),), ("1",), (None,), ((1, 0),), ((1,), (0,)), ((1, 0), (0,)), ((1,), (0, 1)),
+    ((1, 0), (0, 1), (1, 1)), ((1, 0, 0), (0, 1, 0)), [(1, 0), (0, 1)], ((1, 0), [0, 1]), ([1, 0], (0, 1)),
+    ((1, 0), (0, True)), ((1, 0), (0, 2)), ((-1, 0), (0, 1)), ((1, 0), None), ((1, 0), "01"), (None, (0, 1)),
+    ((0,) * 13,) * 13, ((0,) * 12,) * 13, ((0,) * 13,) * 12, (((1, 0), (0, 1)),), nested(1, 10), TooMany("letters"),
+]
+
+
+def exactly(value):
+    """A text that tells values apart that are equal but of unlike kinds, as 1 and True."""
+    return repr(value)
+
+
+def unit_matrix(n):
+    """The matrix of n that changes no word."""
+    return tuple(tuple(int(row == place) for place in range(n)) for row in range(n))
+
+
+def random_word(dice, n):
+    return tuple(dice.randrange(2) for _ in range(n))
+
+
+def random_matrix(dice, n):
+    return tuple(random_word(dice, n) for _ in range(n))
+
+
+def dice_for(name):
+    """Always the same throws for the same name."""
+    return random.Random(name)
+
+
+class Case(unittest.TestCase):
+    def assert_exactly(self, found, wanted):
+        self.assertEqual(exactly(found), exactly(wanted))
+
+    def assert_raises(self, kind, attributes, call, *arguments, **named):
+        """The call raises just this kind, with these very objects as attributes."""
+        with self.assertRaises(ReadError) as caught:
+            call(*arguments, **named)
+        error = caught.exception
+        self.assertIs(type(error), kind, (call, arguments, named))
+        for name, wanted in attributes.items():
+            if isinstance(wanted, str):
+                self.assert_exactly(getattr(error, name), wanted)
+            else:
+                self.assertIs(getattr(error, name), wanted, (call, arguments, named))
+
+    def assert_interface(self, module, functions):
+        """The module itself defines these functions, with parameters of these names."""
+        for name, parameters in functions.items():
+            function = vars(module)[name]
+            self.assertTrue(inspect.isfunction(function), name)
+            self.assertEqual(function.__module__, module.__name__, name)
+            self.assertEqual(list(inspect.signature(function).parameters), parameters, name)
