@@ -64,4 +64,4 @@ def word_of(n, number):
     check_length(n)
     if not is_between(number, 0, (1 << n) - 1):
         raise InvalidNumber(number)
-    return tuple([number >> place & 1 for place in reversed(range(n))])
+    return tuple([(number >> place) & 1 for place in reversed(range(n))])

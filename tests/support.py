@@ -5,6 +5,8 @@ import random
 import unittest
 
 from fourread.errors import InvalidSystem, ReadError, TooMany
+from fourread.shares import Share
+from fourread.tables import Table
 
 
 def nested(value, deep):
@@ -14,16 +16,20 @@ def nested(value, deep):
     return value
 
 
+# Objects of the package that are equal to no other kind of value.
+OBJECTS = [Share(0, 1), Share(1, 1), Share(1, 2), Table(1, (0, 1)), Table(2, (0, 1, 1, 0)), TooMany("letters")]
+
 # Values of all kinds that are no integer.
 NO_INTEGERS = [
     None, True, False, "", "1", "0", "word", (), (1,), (0, 1), ((1,),), [], [1], [0, 1], [[1], (0,)],
-    nested(1, 10), TooMany("letters"), InvalidSystem("size", 0),
+    nested(1, 10), InvalidSystem("size", 0), *OBJECTS,
 ]
 
 # Tuples of two that are no words, each for a reason of its own.
 NO_PAIRS_OF_BITS = [
     (0, 2), (2, 0), (-1, 0), (0, -1), (True, 0), (0, True), (False, 1), (1, False), (None, 0), (1, None),
-    ("0", 1), (0, "1"), ((0,), 1), (0, (1,)), ([0], 1), (1, []), (10 ** 20, 0), (TooMany("x"), 1),
+    ("0", 1), (0, "1"), ((0,), 1), (0, (1,)), ([0], 1), (1, []), (10 ** 20, 0),
+    (Share(1, 1), 1), (0, Share(0, 1)), (0, Table(1, (0, 1))), (TooMany("x"), 1),
 ]
 
 # Values that are no word of whatever length.
@@ -31,7 +37,7 @@ NO_WORDS = [
     None, True, False, 0, 1, 2, -1, "", "0", "1", "01", "word", [], [0], [1], [0, 1], [1, 0, 1], [(0, 1)], (),
     (2,), (-1,), (True,), (False,), (None,), ("0",), ("01",), ((0,),), ((0, 1),), ([0],), (0,) * 13, (1,) * 13,
     (0, 1) * 10, (0, 1, 2), (1, 1, True), (0, 0, 0, None), (0,) * 11 + (2,), (True,) + (1,) * 11,
-    nested(1, 10), nested((0, 1), 9), TooMany("letters"), (TooMany("letters"),), *NO_PAIRS_OF_BITS,
+    nested(1, 10), nested((0, 1), 9), (Share(1, 1),), *OBJECTS, *NO_PAIRS_OF_BITS,
 ]
 
 # Values that are no matrix of whatever size.
@@ -40,7 +46,8 @@ NO_MATRICES = [
     ((True,),), ((None,),), (("1",),), ("1",), (None,), ((1, 0),), ((1,), (0,)), ((1, 0), (0,)), ((1,), (0, 1)),
     ((1, 0), (0, 1), (1, 1)), ((1, 0, 0), (0, 1, 0)), [(1, 0), (0, 1)], ((1, 0), [0, 1]), ([1, 0], (0, 1)),
     ((1, 0), (0, True)), ((1, 0), (0, 2)), ((-1, 0), (0, 1)), ((1, 0), None), ((1, 0), "01"), (None, (0, 1)),
-    ((0,) * 13,) * 13, ((0,) * 12,) * 13, ((0,) * 13,) * 12, (((1, 0), (0, 1)),), nested(1, 10), TooMany("letters"),
+    ((0,) * 13,) * 13, ((0,) * 12,) * 13, ((0,) * 13,) * 12, (((1, 0), (0, 1)),), nested(1, 10),
+    (Table(1, (0, 1)),), (Table(2, (1, 0, 0, 1)), (0, 1)), ((Share(1, 1),),), *OBJECTS,
 ]
 
 
@@ -60,6 +67,22 @@ def random_word(dice, n):
 
 def random_matrix(dice, n):
     return tuple(random_word(dice, n) for _ in range(n))
+
+
+def random_table(dice, n):
+    return Table(n, [dice.randrange(2) for _ in range(2 ** n)])
+
+
+def some_tables(dice, n):
+    """Tables of n: some that are or nearly are sums, some that have no order."""
+    bits = [number.bit_count() % 2 for number in range(2 ** n)]
+    found = [Table(n, (0,) * 2 ** n), Table(n, (1,) * 2 ** n), Table(n, bits), Table(n, [0] + [1] * (2 ** n - 1))]
+    for many in (1, 2, 3):
+        changed = list(bits)
+        for number in range(many):
+            changed[number * 5 % 2 ** n] ^= 1
+        found.append(Table(n, changed))
+    return found + [random_table(dice, n) for _ in range(4)]
 
 
 def dice_for(name):
@@ -82,6 +105,11 @@ class Case(unittest.TestCase):
                 self.assert_exactly(getattr(error, name), wanted)
             else:
                 self.assertIs(getattr(error, name), wanted, (call, arguments, named))
+
+    def assert_bits(self, table, n, bits):
+        """It is the table of n with these bits."""
+        self.assertIs(type(table), Table)
+        self.assert_exactly((table.n, table.bits), (n, bits))
 
     def assert_interface(self, module, functions):
         """The module itself defines these functions, with parameters of these names."""
