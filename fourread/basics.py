@@ -1,4 +1,4 @@
-"""Integers, bits and rows of bits, as all modules check and count them."""
+"""Integers, bits, rows of bits and sequences, as all modules check and count them."""
 
 LONGEST_WORD = 12
 
@@ -12,6 +12,16 @@ def is_integer(value):
 def is_between(value, low, high):
     """Whether value is an integer from low to high."""
     return is_integer(value) and low <= value <= high
+
+
+def first_none(values, is_one_at):
+    """The first place of a sequence at which is_one_at is not the case, or None; 0 if values is no sequence."""
+    if not isinstance(values, (list, tuple)):
+        return 0
+    for place in range(len(values)):
+        if not is_one_at(place):
+            return place
+    return None
 
 
 def are_bits(values):
@@ -34,3 +44,17 @@ def chosen_sums(parts):
     for part in parts[::-1]:
         sums = sums + [part ^ known for known in sums]
     return sums
+
+
+def power(number, many):
+    """The product of so many times this number."""
+    found = 1
+    for _ in range(many):
+        found = found * number
+    return found
+
+
+def number_read(word, most):
+    """The number, at most this one, that the word writes without a needless 0, or None."""
+    written = [str(number) for number in range(most + 1)]
+    return written.index(word) if word in written else None

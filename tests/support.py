@@ -3,9 +3,11 @@
 import inspect
 import random
 import unittest
+from itertools import product
 
 from fourread.errors import InvalidSystem, ReadError, TooMany
 from fourread.shares import Share
+from fourread.systems import System
 from fourread.tables import Table
 
 
@@ -17,7 +19,10 @@ def nested(value, deep):
 
 
 # Objects of the package that are equal to no other kind of value.
-OBJECTS = [Share(0, 1), Share(1, 1), Share(1, 2), Table(1, (0, 1)), Table(2, (0, 1, 1, 0)), TooMany("letters")]
+OBJECTS = [
+    Share(0, 1), Share(1, 1), Share(1, 2), Table(1, (0, 1)), Table(2, (0, 1, 1, 0)), TooMany("letters"),
+    System(1, []), System(2, [((), (0,), 1), (((0, 1),), (), 0)]),
+]
 
 # Values of all kinds that are no integer.
 NO_INTEGERS = [
@@ -85,6 +90,25 @@ def some_tables(dice, n):
     return found + [random_table(dice, n) for _ in range(4)]
 
 
+def random_equation(dice, n):
+    pairs = [(i, j) for i in range(n) for j in range(i + 1, n) if dice.randrange(3) == 0]
+    return tuple(pairs), tuple(i for i in range(n) if dice.randrange(2)), dice.randrange(2)
+
+
+def random_system(dice, n, many):
+    return System(n, [random_equation(dice, n) for _ in range(many)])
+
+
+def fits(word, equation):
+    """Whether the word fits the equation, by the document's words."""
+    pairs, singles, right = equation
+    return (sum(word[i] * word[j] for i, j in pairs) + sum(word[i] for i in singles)) % 2 == right
+
+
+def solutions_of(n, equations):
+    return tuple(word for word in product((0, 1), repeat=n) if all(fits(word, equation) for equation in equations))
+
+
 def dice_for(name):
     """Always the same throws for the same name."""
     return random.Random(name)
@@ -110,6 +134,11 @@ class Case(unittest.TestCase):
         """It is the table of n with these bits."""
         self.assertIs(type(table), Table)
         self.assert_exactly((table.n, table.bits), (n, bits))
+
+    def assert_system(self, system, n, equations):
+        """It is the system of n with these equations."""
+        self.assertIs(type(system), System)
+        self.assert_exactly((system.n, system.equations), (n, tuple(equations)))
 
     def assert_interface(self, module, functions):
         """The module itself defines these functions, with parameters of these names."""
