@@ -29,6 +29,14 @@ def are_bits(values):
     return all([is_between(value, 0, 1) for value in values])
 
 
+def is_place_with_bit(value, n):
+    """Whether value is a pair of a place below n and a bit."""
+    if not isinstance(value, tuple) or len(value) != 2:
+        return False
+    place, bit = value
+    return is_between(place, 0, n - 1) and is_between(bit, 0, 1)
+
+
 def bits_number(bits):
     """The number of a row of bits, which may be empty, among those of its length."""
     number = 0

@@ -1,7 +1,7 @@
 """Systems of equations of degree two over bits."""
 
 from fourread.basics import LONGEST_WORD, are_bits, first_none, is_between
-from fourread.errors import InvalidNumber, InvalidSystem, InvalidWord, Undefined
+from fourread.errors import InvalidNumber, InvalidSystem, InvalidWord, TooMany, Undefined
 from fourread.words import all_words, is_word
 
 
@@ -32,11 +32,24 @@ def is_equation(value, n):
     return are_pairs(pairs, n) and are_unknowns(singles, n) and is_between(right, 0, 1)
 
 
+def check_equations(n, equations):
+    """Raise InvalidSystem unless equations is a sequence of equations between n unknowns."""
+    place = first_none(equations, lambda at: is_equation(equations[at], n))
+    if place is not None:
+        raise InvalidSystem("equations", place)
+
+
 def is_fitting(word, equation):
     """Whether the word fits the equation."""
     pairs, singles, right = equation
     total = sum([word[i] & word[j] for i, j in pairs]) + sum([word[i] for i in singles])
     return total & 1 == right
+
+
+def check_unknowns(many):
+    """Raise TooMany if a system can not have so many unknowns."""
+    if many > LONGEST_WORD:
+        raise TooMany("unknowns")
 
 
 class System:
@@ -45,9 +58,7 @@ class System:
     def __init__(self, n, equations):
         if not is_between(n, 1, LONGEST_WORD):
             raise InvalidSystem("size", 0)
-        place = first_none(equations, lambda at: is_equation(equations[at], n))
-        if place is not None:
-            raise InvalidSystem("equations", place)
+        check_equations(n, equations)
         self.n = n
         self.equations = tuple(equations)
 
@@ -102,3 +113,18 @@ def row_added(system, i, j):
     beside_pairs, beside_singles, beside_right = system.equations[j]
     total = (in_one_alone(pairs, beside_pairs), in_one_alone(singles, beside_singles), right ^ beside_right)
     return System(system.n, system.equations[:j] + (total,) + system.equations[j + 1:])
+
+
+def multiplied_out(one, other):
+    """The terms of the product of two sums: ascending tuples of unknowns, of which the empty one is 1."""
+    return [tuple(sorted(set(left + right))) for left in one for right in other]
+
+
+def equation_of(terms, right):
+    """The equation in which the sum of the terms is right."""
+    odd = {}
+    for term in terms:
+        odd[term] = not odd.get(term, False)
+    kept = sorted([term for term in odd if odd[term]])
+    singles = tuple([term[0] for term in kept if len(term) == 1])
+    return tuple([term for term in kept if len(term) == 2]), singles, (terms.count(()) & 1) ^ right

@@ -109,6 +109,29 @@ def solutions_of(n, equations):
     return tuple(word for word in product((0, 1), repeat=n) if all(fits(word, equation) for equation in equations))
 
 
+# Sums of products of unknowns, as sets of terms, a term being a frozenset of unknowns; the empty one is 1.
+ONE = {frozenset()}
+
+
+def unknown(i):
+    return {frozenset([i])}
+
+
+def multiplied(one, other):
+    """The product of two sums, with x x = x."""
+    found = set()
+    for left, right in product(one, other):
+        found ^= {left | right}
+    return found
+
+
+def equation_that(terms, right):
+    """The equation that the sum of the terms is right, with the 1 brought to the right side."""
+    pairs = tuple(sorted(tuple(sorted(term)) for term in terms if len(term) == 2))
+    singles = tuple(sorted(i for term in terms if len(term) == 1 for i in term))
+    return pairs, singles, right ^ int(frozenset() in terms)
+
+
 def dice_for(name):
     """Always the same throws for the same name."""
     return random.Random(name)
