@@ -29,6 +29,16 @@ def are_bits(values):
     return all([is_between(value, 0, 1) for value in values])
 
 
+def is_row_of_bits(value, many):
+    """Whether value is a tuple of so many bits."""
+    return isinstance(value, tuple) and len(value) == many and are_bits(value)
+
+
+def is_behind(values, at):
+    """Whether the value at the place is greater than the one before it, if there is one."""
+    return at == 0 or values[at - 1] < values[at]
+
+
 def is_place_with_bit(value, n):
     """Whether value is a pair of a place below n and a bit."""
     if not isinstance(value, tuple) or len(value) != 2:
@@ -52,6 +62,25 @@ def chosen_sums(parts):
     for part in parts[::-1]:
         sums = sums + [part ^ known for known in sums]
     return sums
+
+
+def reduced(number, kept):
+    """The number, with kept ones of unlike first 1s added wherever it would have such a first 1."""
+    rest = number
+    for known in kept:
+        # The lesser of both has 0 where known has its first 1.
+        rest = min(rest, rest ^ known)
+    return rest
+
+
+def independent(numbers):
+    """As few numbers as can be, of unlike first 1s, whose sums are those of these numbers."""
+    kept = []
+    for number in numbers:
+        rest = reduced(number, kept)
+        if rest != 0:
+            kept.append(rest)
+    return kept
 
 
 def power(number, many):

@@ -1,6 +1,6 @@
 """Systems from colourings, whose solutions are the words of the colourings."""
 
-from fourread.basics import LONGEST_WORD, first_none, is_between
+from fourread.basics import LONGEST_WORD, first_none, is_behind, is_between
 from fourread.errors import InvalidNumber, InvalidTie, InvalidWord
 from fourread.systems import System, are_unknowns, check_unknowns, equation_of, multiplied_out
 from fourread.words import check_length, is_any_word
@@ -13,11 +13,6 @@ def is_tie(value, nodes):
     return are_unknowns(value, nodes) and len(value) == 2
 
 
-def is_next_tie(ties, at, nodes):
-    """Whether at the place stands a tie, behind the one before it."""
-    return is_tie(ties[at], nodes) and (at == 0 or ties[at - 1] < ties[at])
-
-
 def unlike_ends(i, j):
     """The equation that the nodes i and j have unlike colours."""
     firsts = [(2 * i,), (2 * j,), ()]
@@ -28,7 +23,7 @@ def unlike_ends(i, j):
 def colour_system(nodes, ties, colours):
     """The system of the colourings that have unlike colours at both ends of each tie."""
     check_length(nodes)
-    place = first_none(ties, lambda at: is_next_tie(ties, at, nodes))
+    place = first_none(ties, lambda at: is_tie(ties[at], nodes) and is_behind(ties, at))
     if place is not None:
         raise InvalidTie(place)
     if not is_between(colours, MOST_COLOURS - 1, MOST_COLOURS):

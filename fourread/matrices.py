@@ -1,6 +1,6 @@
 """Matrices: tuples of n words of n bits, their rows."""
 
-from fourread.basics import chosen_sums
+from fourread.basics import chosen_sums, independent
 from fourread.errors import InvalidMatrix, InvalidWord, Undefined
 from fourread.words import is_any_word, is_word, number_of, product_of, word_of
 
@@ -41,15 +41,13 @@ def turned_about(matrix):
 def rank_of(matrix):
     """How many rows, at most, have no sum of some of them that is the zero word."""
     check_matrix(matrix)
-    kept = []
-    for row in matrix:
-        rest = number_of(row)
-        for known in kept:
-            # The lesser of both has 0 where known has its first 1.
-            rest = min(rest, rest ^ known)
-        if rest != 0:
-            kept.append(rest)
-    return len(kept)
+    return len(independent([number_of(row) for row in matrix]))
+
+
+def check_invertible(matrix, n):
+    """Raise InvalidMatrix unless matrix is one of n that has an inverse."""
+    if not is_matrix(matrix, n) or rank_of(matrix) < n:
+        raise InvalidMatrix(matrix)
 
 
 def inverse_of(matrix):

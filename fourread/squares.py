@@ -2,7 +2,22 @@
 
 from fourread.errors import InvalidSquare
 from fourread.matrices import is_any_matrix
-from fourread.words import added, check_word_pair, product_of
+from fourread.words import added, all_words, check_word_pair, product_of
+
+
+def square_bits(square):
+    """The bits of a square, its rows put behind one another."""
+    return tuple([bit for row in square for bit in row])
+
+
+def square_of_bits(bits, n):
+    """The square of n that has these bits."""
+    return tuple([bits[first:first + n] for first in range(0, n * n, n)])
+
+
+def all_squares(n):
+    """The squares of n, at most 3, in the order of their bits."""
+    return tuple([square_of_bits(bits, n) for bits in all_words(n * n)])
 
 
 def check_square_pair(one, other):

@@ -1,6 +1,6 @@
 """Systems of equations of degree two over bits."""
 
-from fourread.basics import LONGEST_WORD, are_bits, first_none, is_between
+from fourread.basics import LONGEST_WORD, first_none, is_between, is_row_of_bits
 from fourread.errors import InvalidNumber, InvalidSystem, InvalidWord, TooMany, Undefined
 from fourread.words import all_words, is_word
 
@@ -86,7 +86,7 @@ class System:
 
     def drawn(self, chosen):
         """The sum of the squares of the chosen equations, and that of their rights."""
-        if not isinstance(chosen, tuple) or len(chosen) != len(self.equations) or not are_bits(chosen):
+        if not is_row_of_bits(chosen, len(self.equations)):
             raise InvalidWord(chosen)
         rows = [[0] * self.n for _ in range(self.n)]
         bit = 0

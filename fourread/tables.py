@@ -1,8 +1,8 @@
 """Tables: a bit at each word of n bits."""
 
 from fourread.basics import are_bits, chosen_sums, is_between
-from fourread.errors import InvalidMatrix, InvalidNumber, InvalidTable, InvalidWord, Undefined
-from fourread.matrices import is_matrix, rank_of
+from fourread.errors import InvalidNumber, InvalidTable, InvalidWord, Undefined
+from fourread.matrices import check_invertible
 from fourread.words import is_any_word, is_word, number_of
 
 LARGEST_TABLE = 10
@@ -65,8 +65,7 @@ def distance(one, other):
 
 def turned_table(table, matrix):
     """The table that has at x the bit of table at times(x, matrix)."""
-    if not is_matrix(matrix, table.n) or rank_of(matrix) < table.n:
-        raise InvalidMatrix(matrix)
+    check_invertible(matrix, table.n)
     turned = chosen_sums([number_of(row) for row in matrix])
     return Table(table.n, [table.bits[number] for number in turned])
 

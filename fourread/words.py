@@ -1,14 +1,12 @@
 """Words: tuples of 1 to 12 bits."""
 
-from fourread.basics import LONGEST_WORD, are_bits, bits_number, is_between
+from fourread.basics import LONGEST_WORD, bits_number, is_between, is_row_of_bits
 from fourread.errors import InvalidNumber, InvalidWord
 
 
 def is_word(value, n):
     """Whether value is a word of n bits."""
-    if not isinstance(value, tuple) or not 1 <= n <= LONGEST_WORD:
-        return False
-    return len(value) == n and are_bits(value)
+    return 1 <= n <= LONGEST_WORD and is_row_of_bits(value, n)
 
 
 def is_any_word(value):

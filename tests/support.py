@@ -6,9 +6,11 @@ import unittest
 from itertools import product
 
 from fourread.errors import InvalidSystem, ReadError, TooMany
+from fourread.papers import SumsPaper, TablePaper
 from fourread.shares import Share
 from fourread.systems import System
 from fourread.tables import Table
+from fourread.throws import Judge
 
 
 def nested(value, deep):
@@ -21,7 +23,8 @@ def nested(value, deep):
 # Objects of the package that are equal to no other kind of value.
 OBJECTS = [
     Share(0, 1), Share(1, 1), Share(1, 2), Table(1, (0, 1)), Table(2, (0, 1, 1, 0)), TooMany("letters"),
-    System(1, []), System(2, [((), (0,), 1), (((0, 1),), (), 0)]),
+    System(1, []), System(2, [((), (0,), 1), (((0, 1),), (), 0)]), TablePaper(1, (0, 1), (0, 1)),
+    SumsPaper((1,), ((1,),)), Judge(System(1, []), SumsPaper((1,), ((1,),))),
 ]
 
 # Values of all kinds that are no integer.
@@ -107,6 +110,94 @@ def fits(word, equation):
 
 def solutions_of(n, equations):
     return tuple(word for word in product((0, 1), repeat=n) if all(fits(word, equation) for equation in equations))
+
+
+def words_of(n):
+    return tuple(product((0, 1), repeat=n))
+
+
+def square_from(bits, n):
+    """The square whose rows behind one another are these bits."""
+    return tuple(tuple(bits[n * row:n * row + n]) for row in range(n))
+
+
+def squares_of(n):
+    """All squares of n, in the order of their rows behind one another."""
+    return tuple(square_from(bits, n) for bits in product((0, 1), repeat=n * n))
+
+
+def plus(one, other):
+    """The sum of two words, or of two squares."""
+    return tuple((left + right) % 2 if isinstance(left, int) else plus(left, right) for left, right in zip(one, other))
+
+
+def inner(one, other):
+    """The sum of the products of the bits at like places of two words, or of two squares."""
+    parts = [left * right if isinstance(left, int) else inner(left, right) for left, right in zip(one, other)]
+    return sum(parts) % 2
+
+
+def outer(one, other):
+    return tuple(tuple(left * right for right in other) for left in one)
+
+
+def some_of(dice, values, many):
+    """So many of the values, at most, ascending."""
+    return tuple(sorted(dice.sample(values, min(many, len(values)))))
+
+
+def random_table_paper(dice, n):
+    return TablePaper(n, random_word(dice, 2 ** n), random_word(dice, 2 ** (n * n)))
+
+
+def random_changes(dice, n, many):
+    """Words and squares of n to change, at most so many of each, ascending."""
+    words = {random_word(dice, n) for _ in range(dice.randrange(many + 1))}
+    squares = {random_matrix(dice, n) for _ in range(dice.randrange(many + 1))}
+    return {"words": tuple(sorted(words)), "squares": tuple(sorted(squares))}
+
+
+def random_sums_paper(dice, n, many):
+    return SumsPaper(random_word(dice, n), random_matrix(dice, n), **random_changes(dice, n, many))
+
+
+def drawn_from(n, equations, chosen):
+    """The sum of the squares of the chosen equations and that of their rights, by the document's words."""
+    square = [[0] * n for _ in range(n)]
+    bit = 0
+    for picked, (pairs, singles, right) in zip(chosen, equations):
+        for i, j in [*pairs, *[(single, single) for single in singles]]:
+            square[i][j] = (square[i][j] + picked) % 2
+        bit = (bit + picked * right) % 2
+    return tuple(map(tuple, square)), bit
+
+
+def length_of_tapes(n, many, kind):
+    """How many bits a tape of the kind has with so many equations, by the document's words."""
+    return [2 * n, 2 * n, 2 * n * n, 2 * n * n, 2 * n + n * n, 2 * n + n * n, many + n * n][kind]
+
+
+def throw_of(n, equations, kind, tape):
+    """What a throw reads, and of the letters that it reads whether they pass, by the document's words."""
+    size = n * n
+    if kind in (0, 1):
+        a, b = tape[:n], tape[n:]
+        return [("f", a), ("f", b), ("f", plus(a, b))], lambda x, y, z: (x + y) % 2 == z
+    if kind in (2, 3):
+        a, b = square_from(tape[:size], n), square_from(tape[size:], n)
+        return [("g", a), ("g", b), ("g", plus(a, b))], lambda x, y, z: (x + y) % 2 == z
+    if kind in (4, 5):
+        a, b, t = tape[:n], tape[n:2 * n], square_from(tape[2 * n:], n)
+        places = [("f", a), ("f", b), ("g", t), ("g", plus(t, outer(a, b)))]
+        return places, lambda x, y, z, w: x * y == (z + w) % 2
+    many = len(equations)
+    square, bit = drawn_from(n, equations, tape[:many])
+    t = square_from(tape[many:], n)
+    return [("g", t), ("g", plus(t, square))], lambda x, y: (x + y) % 2 == bit
+
+
+def letters_of(paper, places):
+    return [paper.letter_f(place) if letter == "f" else paper.letter_g(place) for letter, place in places]
 
 
 # Sums of products of unknowns, as sets of terms, a term being a frozenset of unknowns; the empty one is 1.
