@@ -77,6 +77,26 @@ def random_matrix(dice, n):
     return tuple(random_word(dice, n) for _ in range(n))
 
 
+def random_turn(dice, n):
+    """A matrix of n of rank n: rows of the unit matrix, mixed and added to one another."""
+    rows = dice.sample(unit_matrix(n), n)
+    for _ in range(3 * n if n > 1 else 0):
+        i, j = dice.sample(range(n), 2)
+        rows[j] = tuple((left + right) % 2 for left, right in zip(rows[i], rows[j]))
+    return tuple(rows)
+
+
+def matrices_of_lower_rank(n):
+    """Matrices of n with two equal rows, with a row of zeros, and with a row that is the sum of two others."""
+    rows = unit_matrix(n)
+    found = [((0,) * n,) * n, ((0,) * n,) + rows[1:], rows[:-1] + ((0,) * n,)]
+    if n > 1:
+        found = found + [rows[:1] + rows[:1] + rows[2:], rows[:-2] + rows[-1:] * 2, ((1,) * n,) * n]
+    if n > 2:
+        found = found + [rows[:2] + ((1, 1) + (0,) * (n - 2),) + rows[3:]]
+    return found
+
+
 def random_table(dice, n):
     return Table(n, [dice.randrange(2) for _ in range(2 ** n)])
 
