@@ -60,6 +60,8 @@ def shifted_share(paper, draws, whole, between):
     between is the sum of the balances of the draws by which each changed square is shifted to each changed square.
     """
     size = 1 << paper.n * paper.n
+    # A draw meets one changed square alone at twice as many squares as there are changed ones that it does not shift
+    # to changed ones; with the balances on both sides all is doubled.
     return Share(size * (draws - whole) + 4 * (len(paper.squares) * whole - between), 2 * draws * size)
 
 
@@ -115,13 +117,14 @@ def drawn_alone(system):
 
 def drawn_share(system, paper, shifts):
     """The share of kind 6 that does not pass."""
-    # The last bit tells whether a throw that draws this square passes, without changes of g.
-    drawn = [2 * square_number(square) + (square_product(paper.square, square) ^ right)
-             for square, right in drawn_alone(system)]
-    kept = independent(drawn)
+    # Behind the bits of each square stands a 1 if a throw that draws it does not pass, without changes of g.
+    kept = independent([
+        2 * square_number(square) + (square_product(paper.square, square) ^ right)
+        for square, right in drawn_alone(system)
+    ])
     draws = 1 << len(system)
     whole = draws if all([number & 1 == 0 for number in kept]) else 0
-    # If one choice draws no square and does not pass, as many draws of each shift pass as do not.
+    # If a choice that draws no square does not pass, as many draws of each shift pass as do not.
     alike = 0 if 1 in kept else draws >> len(kept)
     between = 0
     for shift in shifts:
